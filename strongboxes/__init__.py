@@ -1,0 +1,1 @@
+"""Strongboxes: boxes made of weaker boxes."""
