@@ -147,8 +147,9 @@ class NamesTest(unittest.TestCase):
                 self.assertNotIn(name, dir(builtins), file)
 
     def test_of_pythons_own_only_those_listed(self):
+        known = {file: bound_names(tree) | OWN_NAMES for file, tree in TREES.items()}
         for file, node in nodes(ast.Name):
-            self.assertIn(node.id, bound_names(TREES[file]) | OWN_NAMES, (file, node.lineno))
+            self.assertIn(node.id, known[file], (file, node.lineno))
 
     def test_methods(self):
         own = {node.name for _, node in nodes(ast.FunctionDef)}
