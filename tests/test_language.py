@@ -84,6 +84,19 @@ class StatementsTest(unittest.TestCase):
         for name, node in nodes((ast.stmt, ast.expr)):
             self.assertIsInstance(node, STATEMENTS + EXPRESSIONS, (name, node.lineno))
 
+    def test_sets_are_asked_on_the_spot(self):
+        kept = {id(part) for _, node in nodes(ast.Call) if getattr(node.func, "id", "") in ("sorted", "len")
+                for part in node.args}
+        kept |= {id(part) for _, node in nodes(ast.Compare) for part in [node.left] + node.comparators}
+        kept |= {id(part) for _, node in nodes(ast.BinOp) if id(node) in kept for part in (node.left, node.right)}
+        for name, node in nodes(ast.Call):
+            if getattr(node.func, "id", "") in ("set", "frozenset"):
+                self.assertIn(id(node), kept, (name, node.lineno))
+
+    def test_python_own_errors_are_not_taken(self):
+        for name, node in nodes(ast.ExceptHandler):
+            self.assertNotIn(getattr(node.type, "id", None), (None, "Exception", "TypeError", "ValueError"), name)
+
     def test_assignments_have_one_target(self):
         for name, node in nodes(ast.Assign):
             self.assertEqual(len(node.targets), 1, (name, node.lineno))
@@ -145,6 +158,28 @@ class NamesTest(unittest.TestCase):
             for name in bound_names(tree) - UNDERSCORED:
                 self.assertRegex(name, r"^[A-Za-z][A-Za-z0-9_]*$", file)
                 self.assertNotIn(name, dir(builtins), file)
+
+    def test_no_local_is_called_like_an_import_or_a_class(self):
+        for file, tree in TREES.items():
+            taken = {node.name for node in tree.body if isinstance(node, ast.ClassDef)}
+            for node in tree.body:
+                if isinstance(node, ast.ImportFrom):
+                    taken |= {alias.asname or alias.name for alias in node.names}
+            for node in ast.walk(tree):
+                if isinstance(node, ast.arg):
+                    self.assertNotIn(node.arg, taken, (file, node.lineno))
+                elif isinstance(node, ast.Name) and isinstance(node.ctx, ast.Store):
+                    self.assertNotIn(node.id, taken, (file, node.lineno))
+                elif isinstance(node, ast.FunctionDef):
+                    self.assertNotIn(node.name, taken, (file, node.lineno))
+
+    def test_no_method_is_called_like_a_value(self):
+        methods = {part.name for _, node in nodes(ast.ClassDef) for part in node.body
+                   if isinstance(part, ast.FunctionDef)}
+        values = {node.attr for _, node in nodes(ast.Attribute) if isinstance(node.ctx, ast.Store)}
+        self.assertEqual(methods & values, set())
+        own = set().union(*(dir(kind) for kind in (str, int, list, dict, set, bytes, tuple)))
+        self.assertEqual((methods | values) & own - UNDERSCORED, set())
 
     def test_of_pythons_own_only_those_listed(self):
         known = {file: bound_names(tree) | OWN_NAMES for file, tree in TREES.items()}
