@@ -138,15 +138,15 @@ def read_part(part, word):
     if part == "expression":
         return read_expression(word)
     if part in ("number", "target"):
-        return read_number(word)
+        return read_number(word, MOST_FIGURES)
     if part == "kind":
         return word if word in KINDS else None
     return word if is_name(word) else None
 
 
-def read_number(word):
-    """Tell the number that a word of figures is, or None."""
-    if not 1 <= len(word) <= MOST_FIGURES or not all([sign in FIGURES for sign in word]):
+def read_number(word, most_figures):
+    """Tell the number that a word of at most so many figures is, or None."""
+    if not 1 <= len(word) <= most_figures or not all([sign in FIGURES for sign in word]):
         return None
     if word[0] == "0" and word != "0":
         return None
